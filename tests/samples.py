@@ -1,0 +1,104 @@
+"""Values and calculations that several tests need, told without the help of the package."""
+
+from fractions import Fraction
+from math import floor, gcd
+
+from turnedpixels.errors import InvalidTurn, TooLarge, TurnError
+from turnedpixels.integers import nearest
+
+LIMIT = 10 ** 15
+HUGE = 10 ** 99 + 7
+
+# Values that are no pixel, no turn, no legs and no rest, whatever the turn is.
+ANY_VALUES = [
+    None, True, False, 0, 1, -1, 5, HUGE, -HUGE, "", "xyx", "1,2", "2/1/0", "(2, 1, 0)",
+    [], [1, 2], [2, 1, 0], [3, 4, 5], [(1, 2)], (), (1,), (1, 2, 3, 4), (None, None), (None, None, None),
+    ("1", "2"), ("2", "1", "0"), ("ab",), ((1, 2), (3, 4)), ([1], [2]), ([2], 1, 0), (2, [1], 0), (2, 1, [0]),
+    (True, False), (1, True), (True, 0), (0, False), (True, 0, 0), (1, False, 0), (1, 0, False), (True, True, True),
+    (3, 4, None), (None, 1, 0), (2, None, 0), (0, None), (None, 0), ("", ""), ({}, {}), ((), ()), ((), (), ()),
+    {}, {"p": 2, "q": 1}, {"0": 2, "1": 1, "2": 0}, {"a": {"b": {"c": {}}}}, [[[[]]]], ((((),),),),
+    [None] * 400, (0,) * 400, InvalidTurn("text"), TooLarge(3), TurnError, nearest,
+    (InvalidTurn("text"), 0), (0, TooLarge(3)), (2, 1, TooLarge(3)), (1, 0, TurnError),
+]
+
+# What is no turn although it is a tuple of three integers.
+NO_TURNS = [
+    (0, 0, 0), (0, 1, 0), (-1, 0, 0), (-2, 1, 0), (1, 1, 0), (1, -1, 0), (1, 2, 0), (1, -2, 0),
+    (2, 0, 0), (3, 0, 0), (3, 1, 0), (3, -1, 0), (5, 3, 2), (2, 2, 0), (2, -2, 0), (2, 3, 0), (2, -3, 0),
+    (6, 3, 0), (6, -3, 0), (9, 6, 1), (15, 10, 0), (10, 5, 0), (10, -5, 3), (1, 0, -1), (1, 0, 4),
+    (2, 1, -1), (2, 1, 4), (2, -1, -1), (2, -1, 4), (2, 1, HUGE), (2, 1, -HUGE),
+    (LIMIT + 1, 0, 0), (LIMIT + 1, 2, 0), (LIMIT + 1, LIMIT, 0), (LIMIT + 1, -LIMIT, 0), (LIMIT, LIMIT, 0),
+    (LIMIT, -LIMIT, 0), (LIMIT, LIMIT + 1, 0), (LIMIT, 0, 0), (LIMIT, 5, 0), (LIMIT, 2, 0), (HUGE, 1, 0),
+    (HUGE, HUGE - 1, 0), (2, HUGE, 0), (2, -HUGE, 0), (-HUGE, 1, 0), (3, 4, 5), (4, 3, 5),
+]
+
+GREAT_TURNS = [
+    (LIMIT, LIMIT - 1, 0), (LIMIT, 1 - LIMIT, 3), (LIMIT, 1, 1), (LIMIT, -1, 2), (LIMIT, 3, 0),
+    (LIMIT, -333333333333333, 2), (LIMIT - 1, LIMIT - 2, 3), (LIMIT - 1, 2 - LIMIT, 1), (LIMIT - 1, 2, 2),
+    (999999999999989, 414213562373090, 1), (123456789012345, -98765432109872, 3), (10 ** 14, 10 ** 7 + 1, 2),
+]
+
+GREAT_PIXELS = [
+    (10 ** 45 - 1, 0), (0, 10 ** 45 - 1), (1 - 10 ** 45, 10 ** 45 - 1), (-(10 ** 44), 1 - 10 ** 45), (10 ** 30, 3),
+    (123456789012345678901234567890123456789012345, -987654321098765432109876543210987654321098765),
+    (-314159265358979323846264338327950288419716939, 271828182845904523536028747135266249775724709),
+    (10 ** 15, 1), (-(10 ** 15) - 1, 10 ** 16 + 3), (HUGE, -HUGE),
+]
+
+
+def small_turns(greatest, quarters=(0, 1, 2, 3)):
+    """All turns with p at most greatest, and the quarters."""
+    return [(p, q, k) for p in range(1, greatest + 1) for q in range(1 - p, p) for k in quarters
+            if (p + q) % 2 == 1 and gcd(p, q) == 1]
+
+
+def small_pixels(reach):
+    """All pixels of a square about (0, 0)."""
+    return [(x, y) for x in range(-reach, reach + 1) for y in range(-reach, reach + 1)]
+
+
+def factor_of(turn):
+    """The complex number by which a turn multiplies, as two fractions."""
+    p, q, quarters = turn
+    c = p * p + q * q
+    real, imaginary = Fraction(p * p - q * q, c), Fraction(2 * p * q, c)
+    return [(real, imaginary), (-imaginary, real), (-real, -imaginary), (imaginary, -real)][quarters]
+
+
+def complex_product(one, other):
+    return (one[0] * other[0] - one[1] * other[1], one[0] * other[1] + one[1] * other[0])
+
+
+def fraction_place(turn, pixel):
+    """The exact place of a pixel as two fractions."""
+    return complex_product(factor_of(turn), pixel)
+
+
+def rounded(place):
+    """The pixel nearest to a place of two fractions."""
+    return (floor(place[0] + Fraction(1, 2)), floor(place[1] + Fraction(1, 2)))
+
+
+def rest_by_definition(turn, pixel):
+    """m + n i = u * z - (p - q i) * w, w the image for quarters = 0."""
+    p, q, _ = turn
+    w = rounded(fraction_place((p, q, 0), pixel))
+    first, second = complex_product((p, q), pixel), complex_product((p, -q), w)
+    return (first[0] - second[0], first[1] - second[1])
+
+
+def fulfils_inequalities(turn, m, n):
+    """The fact of the document that tells which tuples are rests."""
+    p, q, _ = turn
+    h = (p * p + q * q - 1) // 2
+    return abs(p * m - q * n) <= h and abs(q * m + p * n) <= h
+
+
+def wrong_calls(good, wrong):
+    """Arguments with wrong ones from each place on, and alone at that place: (place, arguments)."""
+    for at in range(len(good)):
+        for value in wrong[at]:
+            yield at, good[:at] + [value] + good[at + 1:]
+            for behind in range(at + 1, len(good)):
+                yield at, good[:at] + [value] + good[at + 1:behind] + [wrong[behind][0]] + good[behind + 1:]
+            yield at, good[:at] + [value] + [other[-1] for other in wrong[at + 1:]]

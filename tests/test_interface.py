@@ -1,0 +1,86 @@
+"""The names and arguments of the interface, and what of the form of the code is easily counted."""
+
+import ast
+import importlib
+import inspect
+import os
+import unittest
+
+import turnedpixels
+
+FOLDER = os.path.dirname(os.path.abspath(turnedpixels.__file__))
+
+INTERFACE = {
+    "turns": {
+        "is_pixel": ["value"], "is_turn": ["value"], "legs_of": ["turn"], "turn_of": ["legs"],
+        "exact_place": ["turn", "pixel"], "image": ["turn", "pixel"], "back": ["turn"], "joined": ["turn", "other"],
+    },
+    "rests": {
+        "rest_of": ["turn", "pixel"], "is_rest": ["turn", "value"], "same_rest": ["turn", "pixel", "mate"],
+        "first_with": ["turn", "rest"], "nearest_with": ["turn", "rest", "pixel"], "all_rests": ["turn"],
+    },
+}
+
+
+def source_files():
+    """The name and the text of each file of the package."""
+    found = []
+    for name in sorted(os.listdir(FOLDER)):
+        if name != "__pycache__":
+            with open(os.path.join(FOLDER, name), encoding="utf-8") as file:
+                found.append((name, file.read()))
+    return found
+
+
+class Interface(unittest.TestCase):
+    def test_functions_stand_in_their_files_with_their_arguments(self):
+        for file, functions in INTERFACE.items():
+            module = importlib.import_module("turnedpixels." + file)
+            for name, arguments in functions.items():
+                with self.subTest(file=file, name=name):
+                    function = getattr(module, name)
+                    self.assertTrue(inspect.isfunction(function))
+                    self.assertEqual(function.__module__, "turnedpixels." + file)
+                    parameters = inspect.signature(function).parameters.values()
+                    self.assertEqual([parameter.name for parameter in parameters], arguments)
+                    for parameter in parameters:
+                        self.assertEqual(parameter.kind, inspect.Parameter.POSITIONAL_OR_KEYWORD)
+                        self.assertEqual(parameter.default, inspect.Parameter.empty)
+
+
+class Form(unittest.TestCase):
+    def test_files_lines_and_characters(self):
+        for name, text in source_files():
+            self.assertTrue(name.endswith(".py"), name)
+            self.assertLessEqual(len(text.split("\n")), 399, name)
+            for line in text.split("\n"):
+                self.assertLessEqual(len(line), 120, (name, line))
+                self.assertTrue(all(" " <= character <= "~" for character in line), (name, line))
+
+    def test_functions_have_at_most_40_lines(self):
+        for name, text in source_files():
+            for node in ast.walk(ast.parse(text)):
+                if isinstance(node, ast.FunctionDef):
+                    self.assertLessEqual(node.end_lineno - node.lineno + 1, 40, (name, node.name))
+
+    def test_imports(self):
+        for name, text in source_files():
+            for node in ast.walk(ast.parse(text)):
+                self.assertNotIsInstance(node, ast.Import, name)
+                if isinstance(node, ast.ImportFrom):
+                    self.assertEqual(node.level, 0)
+                    if node.module == "math":
+                        self.assertLessEqual({part.name for part in node.names}, {"gcd", "isqrt"})
+                    else:
+                        self.assertTrue(node.module.startswith("turnedpixels."), (name, node.module))
+
+    def test_no_floats_and_no_division_that_makes_them(self):
+        for name, text in source_files():
+            for node in ast.walk(ast.parse(text)):
+                self.assertNotIsInstance(node, ast.Div, name)
+                if isinstance(node, ast.Constant):
+                    self.assertNotIsInstance(node.value, float, name)
+
+
+if __name__ == "__main__":
+    unittest.main()

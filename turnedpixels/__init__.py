@@ -1,0 +1,1 @@
+"""Grids of pixels turned by rational angles."""
