@@ -1,5 +1,6 @@
 """Values and calculations that several tests need, told without the help of the package."""
 
+import inspect
 from fractions import Fraction
 from math import floor, gcd
 
@@ -21,6 +22,8 @@ ANY_VALUES = [
     (InvalidTurn("text"), 0), (0, TooLarge(3)), (2, 1, TooLarge(3)), (1, 0, TurnError),
 ]
 
+NO_PIXELS = ANY_VALUES + [(2, 1, 0)]
+
 # What is no turn although it is a tuple of three integers.
 NO_TURNS = [
     (0, 0, 0), (0, 1, 0), (-1, 0, 0), (-2, 1, 0), (1, 1, 0), (1, -1, 0), (1, 2, 0), (1, -2, 0),
@@ -32,10 +35,23 @@ NO_TURNS = [
     (HUGE, HUGE - 1, 0), (2, HUGE, 0), (2, -HUGE, 0), (-HUGE, 1, 0), (3, 4, 5), (4, 3, 5),
 ]
 
+WRONG_TURNS = ANY_VALUES + NO_TURNS + [(0, 0)]
+
 GREAT_TURNS = [
     (LIMIT, LIMIT - 1, 0), (LIMIT, 1 - LIMIT, 3), (LIMIT, 1, 1), (LIMIT, -1, 2), (LIMIT, 3, 0),
     (LIMIT, -333333333333333, 2), (LIMIT - 1, LIMIT - 2, 3), (LIMIT - 1, 2 - LIMIT, 1), (LIMIT - 1, 2, 2),
     (999999999999989, 414213562373090, 1), (123456789012345, -98765432109872, 3), (10 ** 14, 10 ** 7 + 1, 2),
+]
+
+# Turns with a great p that keep all, and some that do not, with a small |q| or a small p - |q|.
+GREAT_KEEPING = [
+    (LIMIT, LIMIT - 1, 0), (LIMIT, 1 - LIMIT, 3), (LIMIT - 1, LIMIT - 2, 2), (LIMIT - 1, 2 - LIMIT, 1),
+    (123456789012345, 123456789012344, 1),
+]
+GREAT_NARROW = [
+    (LIMIT, 1, 1), (LIMIT, -1, 2), (LIMIT, 3, 0), (LIMIT - 1, 2, 2), (LIMIT - 1, -16, 3), (LIMIT - 3, -24, 0),
+    (LIMIT, LIMIT - 3, 0), (LIMIT, 3 - LIMIT, 1), (LIMIT - 1, LIMIT - 6, 2), (LIMIT - 3, 24 - LIMIT, 3),
+    (10 ** 14 + 1, 20, 0), (10 ** 14 + 3, -(10 ** 14) + 14, 2),
 ]
 
 GREAT_PIXELS = [
@@ -79,6 +95,34 @@ def rounded(place):
     return (floor(place[0] + Fraction(1, 2)), floor(place[1] + Fraction(1, 2)))
 
 
+def plain_image(turn, pixel):
+    """The image of a pixel, in integers."""
+    p, q, quarters = turn
+    c = p * p + q * q
+    x, y = complex_product((p * p - q * q, 2 * p * q), pixel)
+    x, y = [(x, y), (-y, x), (-x, -y), (y, -x)][quarters]
+    return ((2 * x + c) // (2 * c), (2 * y + c) // (2 * c))
+
+
+def plain_back(turn):
+    p, q, quarters = turn
+    return (p, -q, (4 - quarters) % 4)
+
+
+def sources_by_search(turn, pixel):
+    """All pixels with the image, looked for near the place that is turned back; in ascending order."""
+    r, s = plain_image(plain_back(turn), pixel)
+    return [(r + x, s + y) for x, y in small_pixels(2) if plain_image(turn, (r + x, s + y)) == pixel]
+
+
+def as_fraction(value):
+    """The fraction that a tuple tells; it has to be in lowest terms."""
+    assert type(value) is tuple and [type(part) for part in value] == [int, int], value
+    found = Fraction(*value)
+    assert (found.numerator, found.denominator) == value, value
+    return found
+
+
 def rest_by_definition(turn, pixel):
     """m + n i = u * z - (p - q i) * w, w the image for quarters = 0."""
     p, q, _ = turn
@@ -102,3 +146,23 @@ def wrong_calls(good, wrong):
             for behind in range(at + 1, len(good)):
                 yield at, good[:at] + [value] + good[at + 1:behind] + [wrong[behind][0]] + good[behind + 1:]
             yield at, good[:at] + [value] + [other[-1] for other in wrong[at + 1:]]
+
+
+def called(function, *arguments):
+    """What a call returns.
+
+    It has to be the same by position and by name; no argument may change, and each list has to be a new one.
+    """
+    names = list(inspect.signature(function).parameters)
+    assert len(names) == len(arguments), names
+    before = repr(arguments)
+    found = function(*arguments)
+    again = function(**{name: value for name, value in reversed(list(zip(names, arguments)))})
+    assert type(found) is type(again) and found == again, (arguments, found, again)
+    if isinstance(found, list):
+        kept = list(found)
+        found.append("more")
+        assert again == kept and function(*arguments) == kept, (arguments, kept)
+        found.clear()
+    assert repr(arguments) == before, (arguments, before)
+    return again

@@ -5,7 +5,7 @@ from fractions import Fraction
 from math import floor, gcd
 
 from tests.samples import ANY_VALUES, HUGE
-from turnedpixels.integers import inverse, is_whole, is_whole_tuple, nearest, times
+from turnedpixels.integers import floor_sum, inverse, is_whole, is_whole_tuple, lowest, nearest, times
 
 
 class Integers(unittest.TestCase):
@@ -37,6 +37,31 @@ class Integers(unittest.TestCase):
                 if gcd(number, modulus) == 1:
                     self.assertEqual(inverse(number, modulus), pow(number, -1, modulus))
         self.assertEqual(inverse(3 * HUGE, 10 ** 30 + 57), pow(3 * HUGE, -1, 10 ** 30 + 57))
+
+    def test_lowest(self):
+        for number in range(-20, 21):
+            for divisor in [*range(-20, 0), *range(1, 21)]:
+                expected = Fraction(number, divisor)
+                self.assertEqual(lowest(number, divisor), (expected.numerator, expected.denominator))
+        self.assertEqual(lowest(-6 * HUGE, -4 * HUGE), (3, 2))
+
+    def test_floor_sum(self):
+        for divisor in range(1, 9):
+            for step in range(-10, 11):
+                for start in range(-12, 13):
+                    total = 0
+                    for many in range(12):
+                        self.assertEqual(floor_sum(many, divisor, step, start), total)
+                        total += (step * many + start) // divisor
+
+    def test_great_floor_sums(self):
+        for many, divisor, step, start in [(HUGE, 7, 3, 5), (10 ** 40, 9, -4, 10 ** 20), (10 ** 50 + 3, 12, 35, -1)]:
+            # Each divisor numbers more, a group, bring as much as the group ahead of it and divisor * step more.
+            group = sum((step * k + start) // divisor for k in range(divisor))
+            groups, left = many // divisor, many % divisor
+            last = sum((step * (groups * divisor + k) + start) // divisor for k in range(left))
+            expected = groups * group + divisor * step * (groups * (groups - 1) // 2) + last
+            self.assertEqual(floor_sum(many, divisor, step, start), expected)
 
 
 if __name__ == "__main__":

@@ -19,6 +19,23 @@ INTERFACE = {
         "rest_of": ["turn", "pixel"], "is_rest": ["turn", "value"], "same_rest": ["turn", "pixel", "mate"],
         "first_with": ["turn", "rest"], "nearest_with": ["turn", "rest", "pixel"], "all_rests": ["turn"],
     },
+    "losses": {
+        "keeps_all": ["turn"], "twice_number": ["turn"], "back_number": ["turn"], "bare_share": ["turn"],
+        "kinds_of": ["turn"], "keeping_number": ["number"],
+    },
+    "sources": {
+        "came_from": ["turn", "pixel"], "is_bare": ["turn", "pixel"], "comes_back": ["turn", "pixel"],
+        "meeting": ["turn", "pixel"], "next_bare": ["turn", "pixel"], "a_loss": ["turn"],
+        "shows_loss": ["turn", "value"],
+    },
+    "misses": {
+        "miss": ["turn", "pixel"], "mean_miss": ["turn"], "greatest_miss": ["turn"], "miss_parts": ["turn", "pixel"],
+    },
+    "chains": {
+        "is_chain": ["value"], "is_matrix": ["value"], "after_chain": ["chain", "pixel"],
+        "before_chain": ["chain", "pixel"], "matrix_of": ["chain"], "fewest_shears": ["matrix"],
+        "chain_for": ["matrix"], "shows_chain": ["matrix", "value"], "first_parting": ["chain", "second", "reach"],
+    },
 }
 
 

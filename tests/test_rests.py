@@ -1,18 +1,18 @@
 """[13], and the facts of [6] where they can be counted."""
 
+import sys
+import time
 import unittest
 from fractions import Fraction
 
 from tests.samples import (
-    ANY_VALUES, GREAT_PIXELS, GREAT_TURNS, HUGE, LIMIT, NO_TURNS, complex_product, fraction_place,
+    ANY_VALUES, GREAT_PIXELS, GREAT_TURNS, HUGE, LIMIT, NO_PIXELS, WRONG_TURNS, complex_product, fraction_place,
     fulfils_inequalities, rest_by_definition, small_pixels, small_turns, wrong_calls,
 )
 from turnedpixels.errors import InvalidPixel, InvalidRest, InvalidTurn, TooLarge
 from turnedpixels.rests import all_rests, first_with, is_rest, nearest_with, rest_of, same_rest
 from turnedpixels.turns import back, image, is_turn
 
-NO_PIXELS = ANY_VALUES + [(2, 1, 0)]
-WRONG_TURNS = ANY_VALUES + NO_TURNS + [(0, 0)]
 # What is no rest of (4, 1, 0): no tuple of two integers, or outside the square of [6].
 NO_RESTS = ANY_VALUES + [
     (2, 2), (-2, 2), (2, -2), (-2, -2), (3, 0), (0, 3), (-3, 0), (0, -3), (9, 9), (HUGE, 0), (0, -HUGE), (0, 0, 0),
@@ -189,6 +189,21 @@ class AllRests(unittest.TestCase):
             with self.assertRaises(TooLarge) as caught:
                 all_rests(turn)
             self.assertEqual(caught.exception.limit, 2000)
+
+    def test_all_turns_up_to_the_limit(self):
+        turns = [turn for turn in small_turns(44, [0]) if size_of(turn) <= 2000]
+        self.assertEqual((len(turns), turns[-1], size_of((44, 7, 1))), (639, (44, 7, 0), 1985))
+        seconds = 0
+        for p, q, _ in turns:
+            start = time.perf_counter()
+            first, *others = [all_rests((p, q, quarters)) for quarters in range(4)]
+            seconds += time.perf_counter() - start
+            self.assertEqual(others, [first] * 3, (p, q))
+            # So many different ones: if all of them are rests, none is left out.
+            self.assertEqual(len(first), p * p + q * q, (p, q))
+            self.assertTrue(all(one < other for one, other in zip(first, first[1:])), (p, q))
+            self.assertTrue(all(fulfils_inequalities((p, q, 0), m, n) for m, n in first), (p, q))
+        print(f"\nall_rests of all {4 * len(turns)} turns with c to 2000: {seconds:.2f} s", file=sys.stderr)
 
     def test_each_list_is_new(self):
         first = all_rests((4, 1, 0))

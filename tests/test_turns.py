@@ -5,14 +5,12 @@ import unittest
 from math import gcd, isqrt
 
 from tests.samples import (
-    ANY_VALUES, GREAT_PIXELS, GREAT_TURNS, HUGE, LIMIT, NO_TURNS, complex_product, factor_of, fraction_place, rounded,
-    small_pixels, small_turns, wrong_calls,
+    ANY_VALUES, GREAT_PIXELS, GREAT_TURNS, HUGE, LIMIT, NO_PIXELS, WRONG_TURNS, complex_product, factor_of,
+    fraction_place, rounded, small_pixels, small_turns, wrong_calls,
 )
 from turnedpixels.errors import InvalidLegs, InvalidPixel, InvalidTurn, TooLarge
 from turnedpixels.turns import back, exact_place, image, is_pixel, is_turn, joined, legs_of, turn_of
 
-NO_PIXELS = ANY_VALUES + [(2, 1, 0)]
-WRONG_TURNS = ANY_VALUES + NO_TURNS + [(0, 0)]
 NO_LEGS = ANY_VALUES + [
     (0, 0), (0, 0, 0), (3, 4, -5), (-3, -4, -5), (1, 0, -1), (0, 1, -1), (3, 4, 6), (3, 4, 4), (1, 1, 1), (1, 1, 2),
     (0, 0, 1), (5, 4, 3), (HUGE, HUGE, HUGE), (HUGE, 0, HUGE + 1), (HUGE, 0, -HUGE), (2, 1, 0),

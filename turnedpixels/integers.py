@@ -1,4 +1,6 @@
-"""What several modules need of integers, and of pairs of them as complex numbers."""
+"""What several modules need of integers, of fractions, and of pairs of integers as complex numbers."""
+
+from math import gcd
 
 
 def is_whole(value):
@@ -36,3 +38,26 @@ def inverse(number, modulus):
         high, low = low, high - part * low
         past, now = now, past - part * now
     return past % modulus
+
+
+def lowest(number, divisor):
+    """The fraction number / divisor in lowest terms, with a positive denominator; divisor is not 0."""
+    common = gcd(number, divisor)
+    if divisor < 0:
+        common = -common
+    return (number // common, divisor // common)
+
+
+def floor_sum(many, divisor, step, start):
+    """The sum of (step * k + start) // divisor for k from 0 to many - 1; divisor is positive."""
+    total = 0
+    while True:
+        total += many * (many - 1) // 2 * (step // divisor) + many * (start // divisor)
+        step, start = step % divisor, start % divisor
+        top = step * many + start
+        if top < divisor:
+            return total
+        # What is left are the points under a line. They are counted by the other axis, where divisor and step
+        # change places: as short as Euclid's way to the common divisor of both.
+        many, start = top // divisor, top % divisor
+        divisor, step = step, divisor

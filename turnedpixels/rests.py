@@ -72,8 +72,26 @@ def all_rests(turn):
     p, q, _ = turn
     if p * p + q * q > MOST_RESTS:
         raise TooLarge(MOST_RESTS)
-    # A rest times u is at most half of c in both parts; divided by u again it stays below p in both.
-    return [(m, n) for m in range(1 - p, p) for n in range(1 - p, p) if is_rest(turn, (m, n))]
+    # The rests fill a turned square, the corners of which are less than (p + |q|) / 2 away from both axes.
+    side = (p + abs(q)) // 2
+    rests = []
+    for m in range(-side, side + 1):
+        least, greatest = _row_ends(p, q, m)
+        rests.extend([(m, n) for n in range(least, greatest + 1)])
+    return rests
+
+
+def _row_ends(p, q, m):
+    """The least and the greatest n such that (m, n) is a rest; the greatest is below the least if there is none."""
+    half = (p * p + q * q - 1) // 2
+    # |q * m + p * n| is at most half.
+    least, greatest = -((half + q * m) // p), (half - q * m) // p
+    if q != 0:
+        # |p * m - q * n| is at most half, too.
+        size = abs(q)
+        shift = p * m if q > 0 else -p * m
+        least, greatest = max(least, -((half - shift) // size)), min(greatest, (half + shift) // size)
+    return (least, greatest)
 
 
 def _check_rest(turn, rest):
