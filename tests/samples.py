@@ -1,10 +1,16 @@
 """Values and calculations that several tests need, told without the help of the package."""
 
 import inspect
+import random
 from fractions import Fraction
 from math import floor, gcd
 
-from turnedpixels.errors import InvalidTurn, TooLarge, TurnError
+from turnedpixels.canvas import Canvas, KeepingCountingCanvas
+from turnedpixels.console import Console
+from turnedpixels.errors import (
+    InvalidChain, InvalidNumber, InvalidOrder, InvalidPixel, InvalidPixels, InvalidScale, InvalidSix, InvalidTurn,
+    InvalidWay, TooLarge, TurnError,
+)
 from turnedpixels.integers import nearest
 
 LIMIT = 10 ** 15
@@ -20,6 +26,8 @@ ANY_VALUES = [
     {}, {"p": 2, "q": 1}, {"0": 2, "1": 1, "2": 0}, {"a": {"b": {"c": {}}}}, [[[[]]]], ((((),),),),
     [None] * 400, (0,) * 400, InvalidTurn("text"), TooLarge(3), TurnError, nearest,
     (InvalidTurn("text"), 0), (0, TooLarge(3)), (2, 1, TooLarge(3)), (1, 0, TurnError),
+    Canvas([]), Canvas([(1, 2), (3, 4)]), KeepingCountingCanvas([(0, 0)]), Console(), Canvas,
+    (Canvas([]), 0), (1, Canvas([(1, 2)])), (Console(), 1, 0), (2, 1, Canvas([])), [Canvas([])], [(0, Console())],
 ]
 
 NO_PIXELS = ANY_VALUES + [(2, 1, 0)]
@@ -36,6 +44,88 @@ NO_TURNS = [
 ]
 
 WRONG_TURNS = ANY_VALUES + NO_TURNS + [(0, 0)]
+
+STEP = ("x", 1, 2)
+STEPS = [("x", -1, 2), ("y", 4, 5), ("x", -1, 2)]
+NO_STEPS = [
+    (), ("x",), ("x", 1), ("x", 1, 2, 3), ["x", 1, 2], "x1/2", ("X", 1, 2), ("z", 1, 2), ("", 1, 2), ("xy", 1, 2),
+    ("x", 1, 0), ("y", 1, -1), ("x", 0, -HUGE), ("y", 0, 0), (1, 1, 2), (None, 1, 2), (("x",), 1, 2), (["x"], 1, 2),
+    ("x", True, 2), ("x", 1, True), ("y", False, 1), ("x", None, 2), ("x", 1, None), ("y", "1", 2), ("y", 1, "2"),
+    ("x", [1], 2), ("x", 1, (2,)), (1, 2, "x"), ("x", (1, 2)), {"x": (1, 2)}, (True, 1, 2), ("y", 1, False),
+    ("x", InvalidPixel("text"), 2), (InvalidPixel("text"), 1, 2), (InvalidPixel, 1, 2), [STEP], (STEP,),
+]
+# Each value that is no chain with the index of the error; no item of the lists of ANY_VALUES is a step.
+NO_CHAINS = [(value, 0 if isinstance(value, list) and len(value) <= 8 else None) for value in ANY_VALUES
+             if value != []] + [
+    ([STEP] * 9, None), ([None] * 9, None), ([STEP] * 400, None), ((STEP,), None), ((), None), (tuple(STEPS), None),
+    ({"x": STEP}, None), (STEP, None), ("x1/2", None), ([STEP] * 8 + [None], None), ([None] * 8, 0), (list(STEP), 0),
+] + [
+    ([STEP] * at + [wrong], at) for at, wrong in zip([0, 1, 3, 7] * 10, NO_STEPS)
+] + [([STEP, wrong, STEP, None, wrong], 1) for wrong in NO_STEPS]
+
+# Each value that is no way, no picture, with the index of the error. None of the lists of ANY_VALUES has an item that
+# is a turn; of its lists just [(1, 2)] is a picture.
+WAY = [(7, 6, 0), (2, -1, 0)]
+NO_ITEMS = WRONG_TURNS + [
+    (4, 1, 0), (4, -1, 2), (3, 0, 0), (5, 2, 1), (LIMIT, LIMIT - 3, 0), (LIMIT, 1, 0), (LIMIT + 1, LIMIT, 0), [2, 1, 0],
+    "2/1/0", ("2/1/0",), ((2, 1, 0),),
+]
+NO_WAYS = [(value, 0 if isinstance(value, list) and len(value) <= 120 else None) for value in ANY_VALUES
+           if value != []] + [
+    ([(2, 1, 0)] * 121, None), ([None] * 121, None), ([(2, 1, 0)] * 120 + [None], None), ([None] * 120, 0),
+    (tuple(WAY), None), ((), None), ((2, 1, 0), None), ({"p": (2, 1, 0)}, None), ("2/1/0", None), ([2, 1, 0], 0),
+    ([(1, 0, 0)] * 119 + [(4, 1, 0)], 119),
+] + [([(2, 1, 3)] * at + [wrong], at) for at, wrong in zip([0, 1, 5, 119] * 60, NO_ITEMS)] + [
+    (WAY + [wrong, (3, 2, 0), None], 2) for wrong in NO_ITEMS
+]
+
+PICTURE = [(-1, 0), (3, 0), (4, 0), (5, 0)]
+NO_PICTURES = [(value, 0 if isinstance(value, list) and len(value) <= 400 else None) for value in ANY_VALUES
+               if value not in ([], [(1, 2)])] + [
+    ([(0, x) for x in range(401)], None), ([None] * 401, None), ([None] * 400, 0), (tuple(PICTURE), None), ((), None),
+    ((0, 0), None), ("0,0", None), ({"x": (0, 0)}, None), ([0, 0], 0), ([(0, 0), (0, 0)], 1), ([(0, 1), (0, 0)], 1),
+    ([(1, 0), (0, 5)], 1), ([(0, 0), (1, 0), (2, 0), (1, 5), None], 3), ([(0, 0), None, (0, 0)], 1),
+    ([(0, x) for x in range(399)] + [(0, 0)], 399), ([(0, x) for x in range(399)] + [(0, 0, 0)], 399),
+    ([(HUGE, 0), (HUGE - 1, 0)], 1), ([(-2, 0), (-1, 0), (-3, 0)], 2), ([(0, 0), (-1, 1)], 1),
+] + [([(-5, at) for at in range(many)] + [wrong, (9, 9)], many)
+     for many, wrong in zip([0, 1, 7, 398] * 60, NO_PIXELS)]
+
+NO_ORDERS = [value for value in ANY_VALUES if value != "xyx"] + [
+    "", "x", "xy", "xyxy", "xyx ", " xyx", "XYX", "Yxy", "yxyx", "yyx", "xxx", ("xyx",), ["xyx"], {"xyx": 1},
+]
+NO_SCALES = ANY_VALUES + [
+    (1, 0, 0), (1, 1, -1), (0, 0, 1), (0, 0, 0), (1, 0, 2), (3, 4, 6), (2, 2, 3), (-2, -2, 3), (10 ** 30 + 1, 0, 1),
+    (0, 10 ** 30 + 1, 1), (-(10 ** 30) - 1, 0, 5), (5, -(10 ** 30) - 1, 5), (10 ** 30, 10 ** 30, 10 ** 30 + 1),
+    (10 ** 30 - 1, 0, 10 ** 30), (6 * 10 ** 29, 8 * 10 ** 29 - 1, 10 ** 30), (HUGE, 0, 1), (1, 0, HUGE), (1, 0, -HUGE),
+    [3, 1, 2], (3, 1), (3, 1, 2, 1), (True, 1, 1), (1, True, 1), (1, 1, True), (3, None, 2), ("3", 1, 2), (3, 1, "2"),
+]
+NO_SIXES = ANY_VALUES + [
+    (0, 0, 0), (2, 1, 0), (1, 2, 0), (1, -1, 0), (-1, 1, 0), (2, 0, 0), (0, 3, 0), (4, 2, 0), (6, 4, 1), (-3, 0, 0),
+    (3, 1, -1), (3, 1, 6), (3, 1, HUGE), (3, 1, -HUGE), (LIMIT + 1, 0, 0), (0, LIMIT + 1, 0), (LIMIT + 1, 2, 0),
+    (LIMIT, -1, 0), (-LIMIT, 1, 0), (-1, LIMIT, 0), (2, -LIMIT + 1, 0), (-LIMIT - 1, -2, 0), (3, -LIMIT - 1, 0),
+    (HUGE, 1, 0), (1, HUGE, 0), [3, 1, 0], (3, 1), (3, 1, 0, 0), (3, True, 0), (True, 0, 0), (1, 0, False),
+    (3, None, 0), ("3", 1, 0), (3, 1, "0"), (5, 1, 0), (LIMIT, LIMIT // 2, 0),
+]
+NO_NUMBERS = [value for value in ANY_VALUES if isinstance(value, bool) or not isinstance(value, int)] + [
+    -1, -2, -5, -(10 ** 45), -HUGE, (1,), [0], "0", {"number": 1},
+]
+
+# For each parameter a right argument, wrong ones, and their error.
+GOOD = {
+    "turn": (4, 1, 0), "pixel": (4, 0), "order": "xyx", "way": WAY, "scale": (5, 5, 6), "six": (3, 1, 0),
+    "pixels": PICTURE, "chain": STEPS, "number": 3,
+}
+WRONG = {
+    "turn": WRONG_TURNS, "pixel": NO_PIXELS, "order": NO_ORDERS, "way": [value for value, _ in NO_WAYS],
+    "scale": NO_SCALES, "six": NO_SIXES, "pixels": [value for value, _ in NO_PICTURES],
+    "chain": [value for value, _ in NO_CHAINS], "number": NO_NUMBERS,
+}
+KINDS = {
+    "turn": InvalidTurn, "pixel": InvalidPixel, "order": InvalidOrder, "way": InvalidWay, "scale": InvalidScale,
+    "six": InvalidSix, "pixels": InvalidPixels, "chain": InvalidChain, "number": InvalidNumber,
+}
+# For the parameters whose errors tell an index: the wrong arguments with it.
+INDEXES = {"way": NO_WAYS, "pixels": NO_PICTURES, "chain": NO_CHAINS}
 
 GREAT_TURNS = [
     (LIMIT, LIMIT - 1, 0), (LIMIT, 1 - LIMIT, 3), (LIMIT, 1, 1), (LIMIT, -1, 2), (LIMIT, 3, 0),
@@ -115,6 +205,18 @@ def sources_by_search(turn, pixel):
     return [(r + x, s + y) for x, y in small_pixels(2) if plain_image(turn, (r + x, s + y)) == pixel]
 
 
+def r_of(n, d):
+    return floor(Fraction(n, d) + Fraction(1, 2))
+
+
+def led(chain, pixel):
+    """The pixel that a chain leads to, by the definition."""
+    x, y = pixel
+    for axis, n, d in chain:
+        x, y = (x + r_of(n * y, d), y) if axis == "x" else (x, y + r_of(n * x, d))
+    return (x, y)
+
+
 def as_fraction(value):
     """The fraction that a tuple tells; it has to be in lowest terms."""
     assert type(value) is tuple and [type(part) for part in value] == [int, int], value
@@ -166,3 +268,41 @@ def called(function, *arguments):
         found.clear()
     assert repr(arguments) == before, (arguments, before)
     return again
+
+
+def check_wrong(function):
+    """Hold a function against all wrong arguments of its parameters, alone and with wrong ones behind them."""
+    names = list(inspect.signature(function).parameters)
+    good, wrong = [GOOD[name] for name in names], [WRONG[name] for name in names]
+    function(*good)
+    for at, arguments in wrong_calls(good, wrong):
+        before = repr(arguments)
+        for found in (raised_by(function, *arguments), raised_by(function, **dict(zip(names, arguments)))):
+            assert type(found) is KINDS[names[at]], (function, arguments, found)
+        assert repr(arguments) == before
+    for at, name in enumerate(names):
+        for value, index in INDEXES.get(name, []):
+            for behind in (good[at + 1:], [None] * len(good[at + 1:])):
+                found = raised_by(function, *good[:at], value, *behind)
+                assert type(found) is KINDS[name], (function, value, found)
+                assert found.index == index and type(found.index) is type(index), (value, found.index)
+
+
+def raised_by(function, *arguments, **named):
+    """The error that a call raises."""
+    try:
+        result = function(*arguments, **named)
+    except TurnError as error:
+        return error
+    raise AssertionError((function, arguments, named, result))
+
+
+def drawn_turns(number, least, greatest, most=None):
+    """Turns by a fixed row of numbers, with p from least to greatest, and c at most as told."""
+    chance, found = random.Random(number * greatest + least), []
+    while len(found) < number:
+        p = chance.randint(least, greatest)
+        q, quarters = chance.randint(1 - p, p - 1), chance.randint(0, 3)
+        if (p + q) % 2 == 1 and gcd(p, q) == 1 and (most is None or p * p + q * q <= most):
+            found.append((p, q, quarters))
+    return found

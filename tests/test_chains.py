@@ -6,21 +6,15 @@ import unittest
 from fractions import Fraction
 from math import floor, gcd
 
-from tests.samples import ANY_VALUES, GREAT_PIXELS, HUGE, NO_PIXELS, called, small_pixels, wrong_calls
+from tests.samples import (
+    ANY_VALUES, GREAT_PIXELS, HUGE, NO_CHAINS, NO_PIXELS, NO_STEPS, STEPS, STEP, called, led, r_of, small_pixels,
+    wrong_calls,
+)
 from turnedpixels.chains import (
     after_chain, before_chain, chain_for, fewest_shears, first_parting, is_chain, is_matrix, matrix_of, shows_chain,
 )
 from turnedpixels.errors import InvalidChain, InvalidMatrix, InvalidNumber, InvalidPixel
 
-STEP = ("x", 1, 2)
-TURN = [("x", -1, 2), ("y", 4, 5), ("x", -1, 2)]
-NO_STEPS = [
-    (), ("x",), ("x", 1), ("x", 1, 2, 3), ["x", 1, 2], "x1/2", ("X", 1, 2), ("z", 1, 2), ("", 1, 2), ("xy", 1, 2),
-    ("x", 1, 0), ("y", 1, -1), ("x", 0, -HUGE), ("y", 0, 0), (1, 1, 2), (None, 1, 2), (("x",), 1, 2), (["x"], 1, 2),
-    ("x", True, 2), ("x", 1, True), ("y", False, 1), ("x", None, 2), ("x", 1, None), ("y", "1", 2), ("y", 1, "2"),
-    ("x", [1], 2), ("x", 1, (2,)), (1, 2, "x"), ("x", (1, 2)), {"x": (1, 2)}, (True, 1, 2), ("y", 1, False),
-    ("x", InvalidPixel("text"), 2), (InvalidPixel("text"), 1, 2), (InvalidPixel, 1, 2), [STEP], (STEP,),
-]
 NO_MATRICES = ANY_VALUES + [
     (1, 0, 0, 1), (1, 0, 0, 1, 1, 1), [1, 0, 0, 1, 1], (1, 0, 0, 1, 0), (1, 0, 0, 1, -1), (-1, 0, 0, -1, -1),
     (2, 0, 0, 2, 2), (3, 0, 0, 3, 3), (6, -8, 8, 6, 10), (2, 1, 1, 2, 1), (1, 0, 0, -1, 1), (0, 0, 0, 0, 0),
@@ -29,14 +23,6 @@ NO_MATRICES = ANY_VALUES + [
     (1, None, 0, 1, 1), ("1", 0, 0, 1, 1), (1, 0, 0, 1, "1"), (1, (0,), 0, 1, 1), (1, 0, 0, 1, None),
     (HUGE, 0, 0, HUGE, 1), (HUGE, 0, 0, HUGE, HUGE), (1, HUGE, HUGE, 1, 1), (4, 0, 0, 1, -2), (-4, 0, 0, -1, -2),
 ]
-# Each value that is no chain with the index of the error; no item of the lists of ANY_VALUES is a step.
-NO_CHAINS = [(value, 0 if isinstance(value, list) and len(value) <= 8 else None) for value in ANY_VALUES
-             if value != []] + [
-    ([STEP] * 9, None), ([None] * 9, None), ([STEP] * 400, None), ((STEP,), None), ((), None), (tuple(TURN), None),
-    ({"x": STEP}, None), (STEP, None), ("x1/2", None), ([STEP] * 8 + [None], None), ([None] * 8, 0), (list(STEP), 0),
-] + [
-    ([STEP] * at + [wrong], at) for at, wrong in zip([0, 1, 3, 7] * 10, NO_STEPS)
-] + [([STEP, wrong, STEP, None, wrong], 1) for wrong in NO_STEPS]
 NO_REACHES = [value for value in ANY_VALUES if isinstance(value, bool) or not isinstance(value, int)] + [
     -1, -2, -30, 31, 32, 10 ** 44, HUGE, -HUGE, (3,), [3], "3",
 ]
@@ -44,18 +30,6 @@ KINDS = {
     "chain": InvalidChain, "second": InvalidChain, "pixel": InvalidPixel, "matrix": InvalidMatrix,
     "reach": InvalidNumber,
 }
-
-
-def r_of(n, d):
-    return floor(Fraction(n, d) + Fraction(1, 2))
-
-
-def led(chain, pixel):
-    """The pixel that a chain leads to, by the definition."""
-    x, y = pixel
-    for axis, n, d in chain:
-        x, y = (x + r_of(n * y, d), y) if axis == "x" else (x, y + r_of(n * x, d))
-    return (x, y)
 
 
 def shears(chain):
@@ -102,7 +76,7 @@ LONG_CHAINS = some_chains(60, 7) + some_chains(40, 10 ** 6) + some_chains(30, 10
 
 class WhetherValues(unittest.TestCase):
     def test_chains(self):
-        for value in [[], [STEP], [STEP] * 8, TURN, [("y", 0, 1)], [("x", -HUGE, HUGE)], [("x", 6, 4)]] + LONG_CHAINS:
+        for value in [[], [STEP], [STEP] * 8, STEPS, [("y", 0, 1)], [("x", -HUGE, HUGE)], [("x", 6, 4)]] + LONG_CHAINS:
             self.assertIs(called(is_chain, value), True, value)
         for value, _ in NO_CHAINS:
             self.assertIs(called(is_chain, value), False, value)
@@ -180,7 +154,7 @@ class Leading(unittest.TestCase):
         self.assertEqual(before_chain([("x", 1, 1), ("y", 1, 1)], (2, 3)), (1, 1))
 
     def test_each_pixel_is_reached_once(self):
-        for chain in [TURN, [("x", 1, 3), ("y", -2, 5)], [("y", 7, 2), ("x", -1, 2), ("y", 1, 9)]]:
+        for chain in [STEPS, [("x", 1, 3), ("y", -2, 5)], [("y", 7, 2), ("x", -1, 2), ("y", 1, 9)]]:
             self.assertEqual(len({after_chain(chain, pixel) for pixel in small_pixels(6)}), 169)
 
     def test_the_empty_chain(self):
@@ -188,11 +162,11 @@ class Leading(unittest.TestCase):
             self.assertEqual([after_chain([], pixel), before_chain([], pixel)], [pixel] * 2)
 
     def test_arguments_stay_as_they_are(self):
-        chain = copy.deepcopy(TURN)
+        chain = copy.deepcopy(STEPS)
         for function in (after_chain, before_chain):
             function(chain, (5, 7))
-            self.assertEqual(chain, TURN)
-        self.assertEqual((matrix_of(chain), first_parting(chain, chain, 3), chain), ((3, -4, 4, 3, 5), None, TURN))
+            self.assertEqual(chain, STEPS)
+        self.assertEqual((matrix_of(chain), first_parting(chain, chain, 3), chain), ((3, -4, 4, 3, 5), None, STEPS))
 
 
 class Matrices(unittest.TestCase):
@@ -203,7 +177,7 @@ class Matrices(unittest.TestCase):
             self.assertIs(is_matrix(found), True)
 
     def test_some_matrices(self):
-        found = [matrix_of(chain) for chain in [[], [("x", 0, 7)], [("x", 6, 4)], [("y", -6, 4)], TURN, TURN + TURN]]
+        found = [matrix_of(chain) for chain in [[], [("x", 0, 7)], [("x", 6, 4)], [("y", -6, 4)], STEPS, STEPS + STEPS]]
         self.assertEqual(found, [(1, 0, 0, 1, 1), (1, 0, 0, 1, 1), (2, 3, 0, 2, 2), (2, 0, -3, 2, 2),
                                  (3, -4, 4, 3, 5), (-7, -24, 24, -7, 25)])
 
@@ -295,15 +269,15 @@ class Matrices(unittest.TestCase):
 
     def test_shows_chain(self):
         for matrix in [(1, 0, 0, 1, 1), (3, -4, 4, 3, 5), (4, 0, 0, 1, 2), (2, 1, 0, 2, 2)]:
-            for chain in [[], [STEP], TURN, chain_for((4, 0, 0, 1, 2)), TURN + [STEP], [("x", 2, 4)], TURN[:2],
-                          [("x", -2, 4)] + TURN[1:], [("y", 0, 1)], [STEP] * 2, [("x", 1, 4)] * 2] + short_chains()[:99]:
+            for chain in [[], [STEP], STEPS, chain_for((4, 0, 0, 1, 2)), STEPS + [STEP], [("x", 2, 4)], STEPS[:2],
+                          [("x", -2, 4)] + STEPS[1:], [("y", 0, 1)], [STEP] * 2, [("x", 1, 4)] * 2] + short_chains()[:99]:
                 expected = matrix_by_definition(chain) == matrix
                 self.assertIs(called(shows_chain, matrix, chain), expected, (matrix, chain))
             for value, _ in NO_CHAINS:
                 self.assertIs(called(shows_chain, matrix, value), False, value)
         self.assertIs(shows_chain((2, 1, 0, 2, 2), [STEP]), True)
         self.assertIs(shows_chain((2, 1, 0, 2, 2), (STEP,)), False)
-        self.assertIs(shows_chain((3, -4, 4, 3, 5), tuple(TURN)), False)
+        self.assertIs(shows_chain((3, -4, 4, 3, 5), tuple(STEPS)), False)
         # Too long, although it changes nothing.
         self.assertIs(shows_chain((1, 0, 0, 1, 1), [("x", 0, 1)] * 8), True)
         self.assertIs(shows_chain((1, 0, 0, 1, 1), [("x", 0, 1)] * 9), False)
@@ -317,7 +291,7 @@ class FirstParting(unittest.TestCase):
         return None
 
     def test_against_a_search(self):
-        chains = some_chains(14, 5, 3) + [[], TURN, [("x", 1, 2)], [("x", 2, 4)], [("x", 1, 3)], [("y", 1, 9)]]
+        chains = some_chains(14, 5, 3) + [[], STEPS, [("x", 1, 2)], [("x", 2, 4)], [("x", 1, 3)], [("y", 1, 9)]]
         seen = []
         for at, chain in enumerate(chains):
             for second in chains[at:]:
@@ -343,7 +317,7 @@ class FirstParting(unittest.TestCase):
     def test_chains_that_nowhere_part(self):
         for reach in (0, 1, 30):
             self.assertIsNone(first_parting([("x", 1, 2)], [("x", 2, 4)], reach))
-            self.assertIsNone(first_parting(TURN, copy.deepcopy(TURN), reach))
+            self.assertIsNone(first_parting(STEPS, copy.deepcopy(STEPS), reach))
             self.assertIsNone(first_parting([], [("x", 0, 5), ("y", 1, 10 ** 45)], reach))
             self.assertIsNone(first_parting([("x", 3, 1)], [("x", 1, 1), ("x", 4, 2)], reach))
             self.assertIsNone(first_parting([], [], reach))
@@ -366,7 +340,7 @@ class FirstParting(unittest.TestCase):
 
 
 class Errors(unittest.TestCase):
-    GOOD = {"chain": TURN, "second": [STEP], "pixel": (1, 0), "matrix": (3, -4, 4, 3, 5), "reach": 3}
+    GOOD = {"chain": STEPS, "second": [STEP], "pixel": (1, 0), "matrix": (3, -4, 4, 3, 5), "reach": 3}
     WRONG = {
         "chain": [value for value, _ in NO_CHAINS], "second": [value for value, _ in NO_CHAINS],
         "pixel": NO_PIXELS, "matrix": NO_MATRICES, "reach": NO_REACHES,
@@ -391,7 +365,7 @@ class Errors(unittest.TestCase):
 
     def test_shows_chain_checks_the_matrix_alone(self):
         for matrix in NO_MATRICES:
-            for value in (TURN, None, [None]):
+            for value in (STEPS, None, [None]):
                 self.assertRaises(InvalidMatrix, shows_chain, matrix, value)
                 self.assertRaises(InvalidMatrix, shows_chain, value=value, matrix=matrix)
 
@@ -400,7 +374,7 @@ class Errors(unittest.TestCase):
             lambda value: after_chain(value, (0, 0)), lambda value: after_chain(value, None),
             lambda value: before_chain(value, (0, 0)), lambda value: before_chain(value, [1]), matrix_of,
             lambda value: first_parting(value, [], 3), lambda value: first_parting(value, None, None),
-            lambda value: first_parting(TURN, value, 3), lambda value: first_parting([], value, -1),
+            lambda value: first_parting(STEPS, value, 3), lambda value: first_parting([], value, -1),
         ]
         for value, index in NO_CHAINS:
             for call in calls:

@@ -36,6 +36,46 @@ INTERFACE = {
         "before_chain": ["chain", "pixel"], "matrix_of": ["chain"], "fewest_shears": ["matrix"],
         "chain_for": ["matrix"], "shows_chain": ["matrix", "value"], "first_parting": ["chain", "second", "reach"],
     },
+    "shears": {
+        "shear_chain": ["turn", "order"], "sheared": ["turn", "order", "pixel"],
+        "unsheared": ["turn", "order", "pixel"], "shear_miss": ["turn", "order", "pixel"], "shear_bound": ["turn"],
+        "shear_tally": ["turn", "order"],
+    },
+    "ways": {
+        "is_way": ["value"], "way_for": ["turn"], "product": ["way"], "shows_way": ["turn", "value"],
+        "walked": ["way", "pixel"], "walked_back": ["way", "pixel"], "way_miss": ["way", "pixel"], "way_bound": ["way"],
+    },
+    "scales": {
+        "enlarged": ["scale", "pixel"], "class_number": ["scale"], "meeting_numbers": ["scale"],
+        "one_to_one": ["scale"], "onto": ["scale"], "sources_of": ["scale", "pixel"],
+    },
+    "sixes": {
+        "six_place": ["six", "pixel"], "six_image": ["six", "pixel"], "six_back": ["six"], "six_numbers": ["six"],
+        "six_keeps": ["six"], "six_ball": ["number"],
+    },
+    "pictures": {
+        "is_picture": ["value"], "turned_picture": ["turn", "pixels"], "lost_number": ["turn", "pixels"],
+        "meetings_in": ["turn", "pixels"], "gaps_in": ["turn", "pixels"], "there_and_back": ["turn", "pixels"],
+        "sheared_picture": ["turn", "order", "pixels"], "walked_picture": ["way", "pixels"],
+    },
+    "texts": {
+        "format_pixel": ["pixel"], "format_picture": ["pixels"], "format_turn": ["turn"], "format_chain": ["chain"],
+        "parse_pixel": ["text"], "parse_picture": ["text"], "parse_turn": ["text"], "parse_chain": ["text"],
+    },
+}
+
+# Of each class: the arguments of its constructor, the methods and the properties that stand in its own body.
+CLASSES = {
+    "canvas": {
+        "Canvas": (["pixels"], {
+            "put": ["pixel"], "take": ["pixel"], "turn": ["turn"], "shear": ["turn", "order"], "walk": ["way"],
+            "undo": [], "twin": [], "described": [], "__len__": [], "__eq__": ["other"],
+        }, ["pixels", "deeds"]),
+        "KeepingCanvas": (["pixels"], {"turn": ["turn"], "described": []}, []),
+        "CountingCanvas": (["pixels"], {"described": []}, ["lost"]),
+        "KeepingCountingCanvas": (["pixels"], {"described": []}, []),
+    },
+    "console": {"Console": ([], {"execute": ["command"]}, [])},
 }
 
 
@@ -63,6 +103,28 @@ class Interface(unittest.TestCase):
                     for parameter in parameters:
                         self.assertEqual(parameter.kind, inspect.Parameter.POSITIONAL_OR_KEYWORD)
                         self.assertEqual(parameter.default, inspect.Parameter.empty)
+
+
+    def test_classes_stand_in_their_files_with_their_methods(self):
+        for file, classes in CLASSES.items():
+            module = importlib.import_module("turnedpixels." + file)
+            for name, (arguments, methods, properties) in classes.items():
+                with self.subTest(file=file, name=name):
+                    found = getattr(module, name)
+                    self.assertEqual((found.__name__, found.__module__), (name, "turnedpixels." + file))
+                    self.assertEqual(list(inspect.signature(found).parameters), arguments)
+                    for method, told in methods.items():
+                        self.assertEqual(list(inspect.signature(vars(found)[method]).parameters), ["self", *told])
+                    for one in properties:
+                        self.assertIsInstance(vars(found)[one], property)
+                    public = [key for key, value in vars(found).items()
+                              if not key.startswith("_") and (callable(value) or isinstance(value, property))]
+                    self.assertLessEqual(set(public), {*methods, *properties})
+
+    def test_the_document_lists_no_other_module(self):
+        files = [name for name, _ in source_files()]
+        self.assertEqual(sorted(files), sorted(
+            ["__init__.py", "errors.py", "integers.py"] + [f"{name}.py" for name in [*INTERFACE, *CLASSES]]))
 
 
 class Form(unittest.TestCase):

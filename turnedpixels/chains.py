@@ -38,11 +38,22 @@ def check_matrix(matrix):
         raise InvalidMatrix("not a tuple (A, B, C, D, E) that is a matrix")
 
 
+def along(chain, pixel):
+    """The pixel that a chain leads to."""
+    x, y = pixel
+    for axis, number, divisor in chain:
+        if axis == "x":
+            x += nearest(number * y, divisor)
+        else:
+            y += nearest(number * x, divisor)
+    return (x, y)
+
+
 def after_chain(chain, pixel):
     """The pixel that a chain leads to."""
     check_chain(chain)
     check_pixel(pixel)
-    return _led(chain, pixel)
+    return along(chain, pixel)
 
 
 def before_chain(chain, pixel):
@@ -118,7 +129,7 @@ def first_parting(chain, second, reach):
         return None
     for x in range(-reach, reach + 1):
         for y in range(-reach, reach + 1):
-            if _led(one, (x, y)) != _led(other, (x, y)):
+            if along(one, (x, y)) != along(other, (x, y)):
                 return (x, y)
     return None
 
@@ -128,17 +139,6 @@ def _is_step(value):
     if not isinstance(value, tuple) or len(value) != 3 or value[0] not in ("x", "y"):
         return False
     return is_whole_tuple(value[1:], 2) and value[2] >= 1
-
-
-def _led(chain, pixel):
-    """The pixel that a chain leads to."""
-    x, y = pixel
-    for axis, number, divisor in chain:
-        if axis == "x":
-            x += nearest(number * y, divisor)
-        else:
-            y += nearest(number * x, divisor)
-    return (x, y)
 
 
 def _step(axis, number, divisor):

@@ -6,6 +6,8 @@ from turnedpixels.errors import InvalidLegs, InvalidPixel, InvalidTurn, TooLarge
 from turnedpixels.integers import is_whole_tuple, nearest, times
 
 GREATEST_P = 10 ** 15
+# The powers of i: what quarter turns multiply by.
+QUARTERS = ((1, 0), (0, 1), (-1, 0), (0, -1))
 
 
 def is_pixel(value):
@@ -49,7 +51,7 @@ def turn_of(legs):
     """The turn that the legs tell."""
     if not _is_legs(legs):
         raise InvalidLegs("not a tuple (a, b, c) with a * a + b * b = c * c and c from 1 on")
-    return _turn_by(legs)
+    return turn_by(legs)
 
 
 def exact_place(turn, pixel):
@@ -81,18 +83,17 @@ def joined(turn, other):
     a, b, c = legs_of(turn)
     r, s, d = legs_of(other)
     x, y = times((a, b), (r, s))
-    return _turn_by((x, y, c * d))
+    return turn_by((x, y, c * d))
 
 
-def _is_legs(value):
-    """Whether any value is legs."""
-    if not is_whole_tuple(value, 3):
-        return False
-    a, b, c = value
-    return c >= 1 and a * a + b * b == c * c
+def led(legs, pixel):
+    """The pixel nearest to the product of a pixel with (a + b i) / c; of two the one with the greater part."""
+    a, b, c = legs
+    x, y = times((a, b), pixel)
+    return (nearest(x, c), nearest(y, c))
 
 
-def _turn_by(legs):
+def turn_by(legs):
     """The turn that the legs tell, which may have common divisors; TooLarge if its p is too great."""
     a, b, c = legs
     common = gcd(a, b)
@@ -107,3 +108,11 @@ def _turn_by(legs):
     if p > GREATEST_P:
         raise TooLarge(GREATEST_P)
     return (p, q if b > 0 else -q, quarters)
+
+
+def _is_legs(value):
+    """Whether any value is legs."""
+    if not is_whole_tuple(value, 3):
+        return False
+    a, b, c = value
+    return c >= 1 and a * a + b * b == c * c
