@@ -48,7 +48,7 @@ def six_numbers(six):
     twice = _twice_number(six)
     p, q, _ = six
     c = _size(p, q)
-    # A pixel comes back if its rest times u, and times v, too, is in the hexagon.
+    # With f of _twice_number: a pixel comes back if f * v / c lies in the hexagon, too.
     return (twice, _tuples_within(_strips(p, q, (0, 0)) + _strips(p - q, -q, (0, 0)), c))
 
 
